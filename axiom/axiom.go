@@ -3,6 +3,8 @@ package axiom
 
 import (
 	"axiom/api"
+	"axiom/facts"
+	"axiom/follow"
 	"axiom/program"
 )
 
@@ -13,19 +15,93 @@ func Check(text string) (string, api.Errno, int) {
 }
 
 // Engine is a program with facts.
-type Engine struct{}
+type Engine struct {
+	program program.Program
+	given   map[string]*facts.Given
+	holds   map[string]*facts.Holds
+}
 
 // New makes an engine (P4).
-func New(text string) (*Engine, api.Errno, int) { return nil, api.OK, 0 }
+func New(text string) (*Engine, api.Errno, int) {
+	p, e, at := program.Read(text)
+	if e != api.OK {
+		return nil, e, at
+	}
+	given := facts.NoneGiven(p.Preds())
+	holds, ok := follow.Model(p, given)
+	if !ok {
+		return nil, api.ErrFull, 0
+	}
+	return &Engine{p, given, holds}, api.OK, 0
+}
 
 // Apply lets facts come and go (P5).
-func (e *Engine) Apply(come []api.Fact, gone []api.Fact) api.Errno { return api.OK }
+func (e *Engine) Apply(come []api.Fact, gone []api.Fact) api.Errno {
+	if len(come)+len(gone) > api.MaxChange {
+		return api.ErrMany
+	}
+	given, ok := e.changed(come, gone)
+	if !ok {
+		return api.ErrFact
+	}
+	if facts.Total(given) > api.MaxFacts {
+		return api.ErrFull
+	}
+	holds, ok := follow.Model(e.program, given)
+	if !ok {
+		return api.ErrFull
+	}
+	e.given, e.holds = given, holds
+	return api.OK
+}
+
+// changed gives what is given behind a change, and leaves what is given now as it is; false, if one is no fact of the program.
+func (e *Engine) changed(come, gone []api.Fact) (map[string]*facts.Given, bool) {
+	given := facts.CopyGiven(e.given)
+	for _, f := range come {
+		r, ok := e.row(f)
+		if !ok {
+			return nil, false
+		}
+		given[f.Pred].Come(r)
+	}
+	for _, f := range gone {
+		r, ok := e.row(f)
+		if !ok {
+			return nil, false
+		}
+		given[f.Pred].Leave(r)
+	}
+	return given, true
+}
+
+// row gives the names of a fact, if it is one of the program.
+func (e *Engine) row(f api.Fact) (facts.Row, bool) {
+	h, ok := e.holds[f.Pred]
+	if !ok {
+		return facts.Row{}, false
+	}
+	return h.Row(f.Args)
+}
 
 // Ask tells how a fact stands (P6).
-func (e *Engine) Ask(f api.Fact) (api.Truth, api.Errno) { return api.Truth{}, api.OK }
+func (e *Engine) Ask(f api.Fact) (api.Truth, api.Errno) {
+	r, ok := e.row(f)
+	if !ok {
+		return api.Truth{}, api.ErrFact
+	}
+	given, holds := e.given[f.Pred], e.holds[f.Pred]
+	return api.Truth{Given: given.Has(r), Holds: holds.Has(r), Count: holds.Count(r)}, api.OK
+}
 
 // All tells what holds of a predicate (P7).
-func (e *Engine) All(pred string) ([]api.Fact, api.Errno) { return nil, api.OK }
+func (e *Engine) All(pred string) ([]api.Fact, api.Errno) {
+	h, ok := e.holds[pred]
+	if !ok {
+		return nil, api.ErrFact
+	}
+	return h.Facts(), api.OK
+}
 
 // Export writes an engine as bytes (P8).
 func (e *Engine) Export() string { return "" }

@@ -1,7 +1,12 @@
 // Package program reads the text of a program: its tokens, its rules, and whether they keep the limits.
 package program
 
-import "axiom/api"
+import (
+	"slices"
+	"strings"
+
+	"axiom/api"
+)
 
 // TermKind is what an atom's place may be.
 type TermKind int
@@ -39,11 +44,30 @@ type Program struct {
 	Rules []Rule
 }
 
+// Pred is a predicate and the number of its places.
+type Pred struct {
+	Name   string
+	Places int
+}
+
+// Preds gives the predicates in the order of their names' bytes.
+func (p Program) Preds() []Pred {
+	var preds []Pred
+	for _, r := range p.Rules {
+		for _, a := range r.atoms() {
+			preds = append(preds, Pred{a.Pred, len(a.Terms)})
+		}
+	}
+	slices.SortFunc(preds, func(a, b Pred) int { return strings.Compare(a.Name, b.Name) })
+	return slices.Compact(preds)
+}
+
 // Read makes a program of a text, or tells the error and its place (P3).
 func Read(text string) (Program, api.Errno, int) {
 	if len(text) > api.MaxText {
 		return Program{}, api.ErrLong, 0
 	}
+	text = strings.Clone(text) // the rules hold pieces of it, and nothing that is handed in is kept
 	p := parser{tokens: split(text)}
 	rules, ok := p.rules()
 	if !ok {

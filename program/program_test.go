@@ -2,7 +2,9 @@ package program
 
 import (
 	"reflect"
+	"slices"
 	"testing"
+	"unsafe"
 
 	"axiom/api"
 )
@@ -29,5 +31,29 @@ func TestReadRefused(t *testing.T) {
 		if p, e, _ := Read(text); e == api.OK || !reflect.DeepEqual(p, Program{}) {
 			t.Errorf("Read(%.20q) = %v, %d, want an error and no program", text, p, e)
 		}
+	}
+}
+
+func TestPreds(t *testing.T) {
+	p, _, _ := Read("q(a,b). b1(X):-né(X,X,X),q(X,X). b(a):-a(b).")
+	want := []Pred{{"a", 1}, {"b", 1}, {"b1", 1}, {"né", 3}, {"q", 2}}
+	if got := p.Preds(); !slices.Equal(got, want) {
+		t.Errorf("Preds = %v, want %v", got, want)
+	}
+	if got := (Program{}).Preds(); len(got) != 0 {
+		t.Errorf("Preds of no rules = %v", got)
+	}
+}
+
+// TestReadKeepsNothing writes over the bytes of the text behind the call.
+func TestReadKeepsNothing(t *testing.T) {
+	text := []byte("p(X):-q(X,a).")
+	p, _, _ := Read(unsafe.String(&text[0], len(text)))
+	want, _, _ := Read("p(X):-q(X,a).")
+	for i := range text {
+		text[i] = 'z'
+	}
+	if !reflect.DeepEqual(p, want) {
+		t.Errorf("Read = %v, want %v", p, want)
 	}
 }

@@ -2,6 +2,7 @@ package program
 
 import (
 	"strings"
+	"unicode/utf8"
 
 	"axiom/api"
 )
@@ -84,6 +85,13 @@ func word(rest string, kind tokenKind) (tokenKind, int) {
 		return kindWrong, 0
 	}
 	return kind, size
+}
+
+// IsName tells whether a text is a name, whole and alone.
+func IsName(text string) bool {
+	r, _ := utf8.DecodeRuneInString(text)
+	kind, size := firstToken(text, r)
+	return kind == kindName && size == len(text)
 }
 
 // isSmall needs the bytes too: range gives U+FFFD both for its own three bytes and for a byte that is no UTF-8.

@@ -47,3 +47,16 @@ func TestSplitPlaces(t *testing.T) {
 		t.Errorf("split = %v, want %v", got, want)
 	}
 }
+
+func TestIsName(t *testing.T) {
+	for _, s := range []string{"a", "abcdef", "a00000", "é", "éééééé", "\ufffd", "\U0010ffff9"} {
+		if !IsName(s) {
+			t.Errorf("IsName(%q) is false", s)
+		}
+	}
+	for _, s := range []string{"", "abcdefg", "A", "Ab", "0", "aB", "a b", "a ", " a", "a\n", "a(", ".", ":-", "É", "\xff", "\xef\xbf", "a\xff", "abcdef\xff", "abcdef."} {
+		if IsName(s) {
+			t.Errorf("IsName(%q) is true", s)
+		}
+	}
+}
