@@ -3,9 +3,11 @@ package axiom
 
 import (
 	"axiom/api"
+	"axiom/digest"
 	"axiom/facts"
-	"axiom/follow"
 	"axiom/program"
+	"axiom/record"
+	"axiom/state"
 )
 
 // Check tells whether a text is a program, and writes it in its plain form (P3).
@@ -15,11 +17,7 @@ func Check(text string) (string, api.Errno, int) {
 }
 
 // Engine is a program with facts.
-type Engine struct {
-	program program.Program
-	given   map[string]*facts.Given
-	holds   map[string]*facts.Holds
-}
+type Engine struct{ state state.State }
 
 // New makes an engine (P4).
 func New(text string) (*Engine, api.Errno, int) {
@@ -27,12 +25,11 @@ func New(text string) (*Engine, api.Errno, int) {
 	if e != api.OK {
 		return nil, e, at
 	}
-	given := facts.NoneGiven(p.Preds())
-	holds, ok := follow.Model(p, given)
+	first, ok := state.Make(p, facts.NoneGiven(p.Preds()), digest.Of(p.Plain))
 	if !ok {
 		return nil, api.ErrFull, 0
 	}
-	return &Engine{p, given, holds}, api.OK, 0
+	return &Engine{first}, api.OK, 0
 }
 
 // Apply lets facts come and go (P5).
@@ -44,20 +41,18 @@ func (e *Engine) Apply(come []api.Fact, gone []api.Fact) api.Errno {
 	if !ok {
 		return api.ErrFact
 	}
-	if facts.Total(given) > api.MaxFacts {
-		return api.ErrFull
-	}
-	holds, ok := follow.Model(e.program, given)
+	head := record.Head(e.state.Head, record.Content(come, gone))
+	next, ok := state.Make(e.state.Program, given, head)
 	if !ok {
 		return api.ErrFull
 	}
-	e.given, e.holds = given, holds
+	e.state = next
 	return api.OK
 }
 
 // changed gives what is given behind a change, and leaves what is given now as it is; false, if one is no fact of the program.
 func (e *Engine) changed(come, gone []api.Fact) (map[string]*facts.Given, bool) {
-	given := facts.CopyGiven(e.given)
+	given := facts.CopyGiven(e.state.Given)
 	for _, f := range come {
 		r, ok := e.row(f)
 		if !ok {
@@ -77,7 +72,7 @@ func (e *Engine) changed(come, gone []api.Fact) (map[string]*facts.Given, bool) 
 
 // row gives the names of a fact, if it is one of the program.
 func (e *Engine) row(f api.Fact) (facts.Row, bool) {
-	h, ok := e.holds[f.Pred]
+	h, ok := e.state.Holds[f.Pred]
 	if !ok {
 		return facts.Row{}, false
 	}
@@ -90,13 +85,13 @@ func (e *Engine) Ask(f api.Fact) (api.Truth, api.Errno) {
 	if !ok {
 		return api.Truth{}, api.ErrFact
 	}
-	given, holds := e.given[f.Pred], e.holds[f.Pred]
+	given, holds := e.state.Given[f.Pred], e.state.Holds[f.Pred]
 	return api.Truth{Given: given.Has(r), Holds: holds.Has(r), Count: holds.Count(r)}, api.OK
 }
 
 // All tells what holds of a predicate (P7).
 func (e *Engine) All(pred string) ([]api.Fact, api.Errno) {
-	h, ok := e.holds[pred]
+	h, ok := e.state.Holds[pred]
 	if !ok {
 		return nil, api.ErrFact
 	}
@@ -104,10 +99,16 @@ func (e *Engine) All(pred string) ([]api.Fact, api.Errno) {
 }
 
 // Export writes an engine as bytes (P8).
-func (e *Engine) Export() string { return "" }
+func (e *Engine) Export() string { return e.state.Bytes() }
 
 // Import makes an engine of bytes (P9).
-func Import(s string) (*Engine, api.Errno) { return nil, api.OK }
+func Import(s string) (*Engine, api.Errno) {
+	taken, ok := state.Read(s)
+	if !ok {
+		return nil, api.ErrBytes
+	}
+	return &Engine{taken}, api.OK
+}
 
 // Log tells what came and went, as bytes (P10).
 func (e *Engine) Log() string { return "" }
