@@ -16,8 +16,11 @@ func Check(text string) (string, api.Errno, int) {
 	return p.Plain, e, at
 }
 
-// Engine is a program with facts.
-type Engine struct{ state state.State }
+// Engine is a program with facts, and the records of what came and went.
+type Engine struct {
+	state state.State
+	log   []byte
+}
 
 // New makes an engine (P4).
 func New(text string) (*Engine, api.Errno, int) {
@@ -29,7 +32,7 @@ func New(text string) (*Engine, api.Errno, int) {
 	if !ok {
 		return nil, api.ErrFull, 0
 	}
-	return &Engine{first}, api.OK, 0
+	return &Engine{state: first}, api.OK, 0
 }
 
 // Apply lets facts come and go (P5).
@@ -41,12 +44,13 @@ func (e *Engine) Apply(come []api.Fact, gone []api.Fact) api.Errno {
 	if !ok {
 		return api.ErrFact
 	}
-	head := record.Head(e.state.Head, record.Content(come, gone))
-	next, ok := state.Make(e.state.Program, given, head)
+	content := record.Content(come, gone)
+	next, ok := state.Make(e.state.Program, given, record.Head(e.state.Head, content))
 	if !ok {
 		return api.ErrFull
 	}
 	e.state = next
+	e.log = record.Append(e.log, content, next.Head)
 	return api.OK
 }
 
@@ -107,11 +111,38 @@ func Import(s string) (*Engine, api.Errno) {
 	if !ok {
 		return nil, api.ErrBytes
 	}
-	return &Engine{taken}, api.OK
+	return &Engine{state: taken}, api.OK
 }
 
 // Log tells what came and went, as bytes (P10).
-func (e *Engine) Log() string { return "" }
+func (e *Engine) Log() string { return string(e.log) }
 
 // Replay makes an engine of an export and a log, as far as it is whole (P11).
-func Replay(export string, log string) (*Engine, int, api.Errno) { return nil, 0, api.OK }
+func Replay(export string, log string) (*Engine, int, api.Errno) {
+	e, err := Import(export)
+	if err != api.OK {
+		return nil, 0, err
+	}
+	place := 0
+	for place < len(log) {
+		size, ok := e.redo(log[place:])
+		if !ok {
+			return e, place, api.ErrTorn
+		}
+		place += size
+	}
+	return e, place, api.OK
+}
+
+// redo goes through the record that a log begins with, and gives its size; false, if that can't be done, and then nothing has changed.
+func (e *Engine) redo(log string) (int, bool) {
+	content, size, ok := record.First(log, e.state.Head)
+	if !ok {
+		return 0, false
+	}
+	come, gone, ok := record.Facts(content, e.state.Program.Preds())
+	if !ok || e.Apply(come, gone) != api.OK {
+		return 0, false
+	}
+	return size, true
+}

@@ -38,8 +38,8 @@ func digestOf(s string) string {
 	return string(d[:])
 }
 
-// headBehind gives the head behind a change, whose facts are texts.
-func headBehind(head string, come, gone []string) string {
+// contentOf writes a record's content; the facts are texts.
+func contentOf(come, gone []string) string {
 	content := ""
 	for _, texts := range [][]string{come, gone} {
 		content += pack(len(texts))
@@ -49,7 +49,12 @@ func headBehind(head string, come, gone []string) string {
 			}
 		}
 	}
-	return digestOf(head + content)
+	return content
+}
+
+// headBehind gives the head behind a change, whose facts are texts.
+func headBehind(head string, come, gone []string) string {
+	return digestOf(head + contentOf(come, gone))
 }
 
 func (o oracle) plain() string { return strings.NewReplacer(" ", "", "\n", "").Replace(o.text()) }

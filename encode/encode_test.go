@@ -41,7 +41,7 @@ func TestNumbersReadAgain(t *testing.T) {
 			t.Fatalf("Number = %d, %v, want %d", got, r.Failed(), n)
 		}
 	}
-	if got := r.Number(math.MaxInt); got != 1<<28-1 || r.Failed() || r.rest != "" {
+	if got := r.Number(math.MaxInt); got != 1<<28-1 || r.Failed() || r.Rest() != "" {
 		t.Errorf("the last Number = %d, %v", got, r.Failed())
 	}
 }
@@ -72,7 +72,7 @@ func TestText(t *testing.T) {
 		t.Errorf("Text of a byte that is not there = %q, %v", got, r.Failed())
 	}
 	r = NewReader("\x02ab")
-	if got := r.Text(); got != "ab" || r.Failed() || r.rest != "" {
+	if got := r.Text(); got != "ab" || r.Failed() || r.Rest() != "" {
 		t.Errorf("Text up to the end = %q, %v", got, r.Failed())
 	}
 	for _, s := range []string{"", "\x03ab", "\x82\x00ab", "\xff\xff\xff\x7fab", "\xff\xff\xff\xff\xff\xff\xff\xff\x7fab"} {
@@ -89,5 +89,20 @@ func TestBehindAFault(t *testing.T) {
 	r.Number(1)
 	if n, text := r.Number(9), r.Text(); n != 0 || text != "" || !r.Failed() {
 		t.Errorf("behind a fault: %d, %q, %v", n, text, r.Failed())
+	}
+}
+
+func TestRest(t *testing.T) {
+	r := NewReader("\xac\x02\x02ab\x03c")
+	if r.Rest() != "\xac\x02\x02ab\x03c" {
+		t.Errorf("Rest ahead of all = %q", r.Rest())
+	}
+	r.Number(300)
+	if r.Rest() != "\x02ab\x03c" {
+		t.Errorf("Rest behind a number = %q", r.Rest())
+	}
+	r.Text()
+	if r.Rest() != "\x03c" || r.Failed() {
+		t.Errorf("Rest behind a text = %q, %v", r.Rest(), r.Failed())
 	}
 }

@@ -17,6 +17,9 @@ func NewReader(s string) *Reader { return &Reader{rest: s} }
 // Failed tells whether there was something that could not be read.
 func (r *Reader) Failed() bool { return r.failed }
 
+// Rest gives the bytes that are not read yet.
+func (r *Reader) Rest() string { return r.rest }
+
 // Number reads a number; a greater one than the most is none.
 func (r *Reader) Number(most int) int {
 	n, size := firstNumber(r.rest)

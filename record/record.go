@@ -1,4 +1,4 @@
-// Package record writes what came and went, each record chained to the one ahead of it.
+// Package record writes what came and went, each record chained to the one ahead of it, and reads it again.
 package record
 
 import (
@@ -26,4 +26,9 @@ func appendFacts(b []byte, facts []api.Fact) []byte {
 // Head gives the head behind a record of this content: it hangs on all that was ahead.
 func Head(ahead digest.Digest, content string) digest.Digest {
 	return digest.Of(string(ahead[:]) + content)
+}
+
+// Append writes a record behind a log; the head is the one behind this record.
+func Append(log []byte, content string, head digest.Digest) []byte {
+	return append(encode.AppendText(log, content), head[:]...)
 }
